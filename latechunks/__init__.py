@@ -1,0 +1,1 @@
+"""Chunks of parallel loops, and how late they can be."""

@@ -1,0 +1,45 @@
+"""What the tests share: values of all kinds, and errors compared with their fields."""
+
+import unittest
+
+from latechunks import errors
+from latechunks.ratios import Ratio
+
+
+def a_function(value):
+    return value
+
+
+def values():
+    """Values of all kinds, new ones each time."""
+    deep = 1
+    for _ in range(8):
+        deep = [deep]
+    return [
+        None, True, False, -10 ** 49, -1, 0, 1, 2, 7, 60, 61, 10 ** 30, 10 ** 30 + 1, 10 ** 50 - 1,
+        "", "a", "abcdefgh", "abcdefghi", "A", "1", "-", "/", "fee", "self", "a b", "a\nb", "x" * 30000,
+        (), (1,), (1, "a"), [], [1], [[]], ["a", None], deep, {}, {"a": 1}, {1: "a"}, {"a": {"b": [1]}},
+        a_function, lambda: None, len,
+        Ratio(0), Ratio(1), Ratio(1, 2), Ratio(-7, 3), Ratio(10 ** 49, 7), errors.BadSize(0), errors.Nothing(),
+    ]
+
+
+def same(one, other):
+    """Whether both are one value, of one kind."""
+    return one is other or (type(one) is type(other) and one == other)
+
+
+class Case(unittest.TestCase):
+    def raises(self, error, call, *arguments, **named):
+        """The call raises an error of just this class with just these fields."""
+        with self.assertRaises(errors.LateError) as caught:
+            call(*arguments, **named)
+        told = caught.exception
+        self.assertIs(type(told), type(error), f"{told!r} {vars(told)!r:.200}")
+        self.assertEqual(list(vars(told)), list(vars(error)))
+        for field, value in vars(error).items():
+            self.assertTrue(same(vars(told)[field], value), f"{field}: {vars(told)[field]!r:.200}, not {value!r:.200}")
+
+    def is_same(self, one, other):
+        if not same(one, other):
+            self.fail(f"{one!r:.200} is not {other!r:.200}")

@@ -1,0 +1,47 @@
+"""The interface: its names stand in their files, its methods in their classes, its parameters have their names."""
+
+import importlib
+import inspect
+import unittest
+
+STATIC, CLASS, PROPERTY = "static ", "class ", "property "
+
+INTERFACE = {
+    "checks": {"is_integer": "value", "is_within": "value, least, most", "is_size": "value", "is_name": "value"},
+    "words": {"number_of": "word, least, most"},
+    "papers": {"Paper": {}, "Denial": {"__bool__": ""}},
+    "ratios": {"Ratio": {
+        "__init__": "over, under=1", STATIC + "of": "value", STATIC + "greatest": "values", CLASS + "read": "text",
+        "__add__": "other", "__radd__": "other", "__sub__": "other", "__rsub__": "other", "__mul__": "other",
+        "__rmul__": "other", "__neg__": "", "__floordiv__": "other", "__rfloordiv__": "other", "__mod__": "other",
+        "__rmod__": "other", "__lt__": "other", "__le__": "other", "__gt__": "other", "__ge__": "other",
+        "__eq__": "other", "__bool__": "", "__str__": "", "floor": "", "ceiling": ""}},
+}
+
+
+class InterfaceTest(unittest.TestCase):
+    def test_names_stand_in_their_files(self):
+        for module, names in INTERFACE.items():
+            for name, told in names.items():
+                found = getattr(importlib.import_module("latechunks." + module), name)
+                self.assertEqual(found.__module__, "latechunks." + module, name)
+                if isinstance(told, str):
+                    self.has_parameters(found, told)
+                else:
+                    self.assertTrue(inspect.isclass(found), name)
+                    for method, parameters in told.items():
+                        self.stands_in(found, method, parameters)
+
+    def stands_in(self, found, method, parameters):
+        kind, _, name = method.rpartition(" ")
+        own = vars(found)[name]
+        kinds = {"static": staticmethod, "class": classmethod, "property": property}
+        if kind:
+            self.assertIsInstance(own, kinds[kind], method)
+        if kind != "property":
+            self.has_parameters(getattr(found, name), parameters, 0 if kind else 1)
+
+    def has_parameters(self, function, parameters, left_out=0):
+        signature = inspect.signature(function)
+        signature = signature.replace(parameters=list(signature.parameters.values())[left_out:])
+        self.assertEqual(str(signature), f"({parameters})", function.__qualname__)
