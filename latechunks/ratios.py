@@ -24,11 +24,7 @@ class Ratio:
     @staticmethod
     def of(value):
         """The value itself if it is a Ratio, the Ratio of an integer."""
-        if isinstance(value, Ratio):
-            return value
-        if not is_integer(value):
-            raise BadRatio(value)
-        return Ratio(value)
+        return value if isinstance(value, Ratio) else Ratio(value)
 
     @staticmethod
     def greatest(values):

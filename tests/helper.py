@@ -3,7 +3,12 @@
 import unittest
 
 from latechunks import errors
+from latechunks.chunks import Chunks
+from latechunks.crews import Crew
+from latechunks.plays import Play, Taking
 from latechunks.ratios import Ratio
+from latechunks.settings import Setting
+from latechunks.worlds import World
 
 
 def a_function(value):
@@ -22,6 +27,25 @@ def values():
         a_function, lambda: None, len,
         Ratio(0), Ratio(1), Ratio(1, 2), Ratio(-7, 3), Ratio(10 ** 49, 7), errors.BadSize(0), errors.Nothing(),
     ]
+
+
+def objects():
+    """Objects of the package, new ones each time."""
+    crew = Crew(a=1, b=2)
+    world = World({"a": 0}, (2,), ("a", "b"))
+    return [
+        Chunks(), Chunks(2), Chunks(4, 4), crew, Crew(a=1), Setting(crew), Setting(crew, 1, 2, 3), world,
+        world.with_ready("b", Ratio(1, 2)), Play(Chunks(2), Setting(crew), world), Taking("a", 0, Ratio(0), Ratio(2)),
+    ]
+
+
+def everything():
+    return values() + objects()
+
+
+def but(*kinds):
+    """Values of all kinds but these."""
+    return [value for value in everything() if type(value) not in kinds]
 
 
 def same(one, other):

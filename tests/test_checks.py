@@ -3,7 +3,7 @@
 import string
 
 from latechunks.checks import is_integer, is_name, is_size, is_within
-from tests.helper import Case, values
+from tests.helper import Case, everything
 
 TEXT_WORDS = ["cost", "fee", "none", "order", "ready", "self", "chunks", "crew", "late", "at"]
 
@@ -14,14 +14,14 @@ def plain_integer(value):
 
 class ChecksTest(Case):
     def test_is_integer(self):
-        for value in values():
+        for value in everything():
             self.assertIs(is_integer(value), plain_integer(value), repr(value)[:99])
             self.assertIs(is_integer(value=value), plain_integer(value))
 
     def test_is_within(self):
         for least, most in ((0, 9), (-3, 3), (1, 10 ** 30), (5, 5), (5, 4), (-10 ** 49, -10 ** 48)):
             beside = [least - 1, least, least + 1, most - 1, most, most + 1]
-            for value in values() + beside:
+            for value in everything() + beside:
                 expected = plain_integer(value) and least <= value <= most
                 self.assertIs(is_within(value, least, most), expected)
                 self.assertIs(is_within(most=most, least=least, value=value), expected)
@@ -30,7 +30,7 @@ class ChecksTest(Case):
         self.assertEqual([is_within(True, 0, 1), is_within(False, 0, 1), is_size(True)], [False, False, False])
 
     def test_is_size(self):
-        for value in values() + [10 ** 30 - 1, 10 ** 30, 10 ** 30 + 1, -10 ** 30]:
+        for value in everything() + [10 ** 30 - 1, 10 ** 30, 10 ** 30 + 1, -10 ** 30]:
             expected = plain_integer(value) and 1 <= value <= 10 ** 30
             self.assertIs(is_size(value), expected)
             self.assertIs(is_size(value=value), expected)
@@ -48,5 +48,5 @@ class ChecksTest(Case):
 
     def test_no_names(self):
         near = ["", "abcdefghi", "A", "aB", "a1", "1", "a b", " a", "a ", "a\n", "a_", "-", "/", "`", "{", "z" * 30000]
-        for value in near + [value for value in values() if type(value) is not str]:
+        for value in near + [value for value in everything() if type(value) is not str]:
             self.assertIs(is_name(value), False, repr(value)[:99])

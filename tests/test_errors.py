@@ -4,7 +4,7 @@ import inspect
 
 from latechunks import errors
 from latechunks.errors import LateError
-from tests.helper import Case, values
+from tests.helper import Case, everything
 
 FIELDS = {
     "BadName": "value", "BadSize": "value", "BadSpeed": "value", "BadCost": "value", "BadFee": "value",
@@ -34,7 +34,7 @@ class ErrorsTest(Case):
         for name, fields in FIELDS.items():
             made = getattr(errors, name)
             fields = fields.split()
-            for value in values():
+            for value in everything():
                 worths = [value, 5][:len(fields)]
                 self.fields_are(made(*worths), fields, worths)
                 self.fields_are(made(**dict(zip(fields, worths))), fields, worths)
@@ -46,7 +46,7 @@ class ErrorsTest(Case):
             self.assertIs(getattr(error, field), worth)
 
     def test_both_fields_hold_any_values(self):
-        for value in values():
+        for value in everything():
             self.assertIs(errors.BadText(0, value).word, value)
             self.assertIs(errors.TooMany("chunks", most=value).most, value)
 

@@ -16,6 +16,31 @@ INTERFACE = {
         "__rmul__": "other", "__neg__": "", "__floordiv__": "other", "__rfloordiv__": "other", "__mod__": "other",
         "__rmod__": "other", "__lt__": "other", "__le__": "other", "__gt__": "other", "__ge__": "other",
         "__eq__": "other", "__bool__": "", "__str__": "", "floor": "", "ceiling": ""}},
+    "chunks": {"Chunks": {
+        "__init__": "*sizes", STATIC + "of": "sizes", CLASS + "read": "text", STATIC + "even": "total, size",
+        STATIC + "shared": "total, many", STATIC + "tapered": "total, first, last", "__len__": "", "__iter__": "",
+        "__contains__": "x", "__getitem__": "at", "__add__": "other", "__mul__": "other", "__rmul__": "other",
+        "__invert__": "", "__le__": "other", "__lt__": "other", "__and__": "other", "__or__": "other",
+        "__eq__": "other", "__str__": "", "cut": "at", "place_of": "item"}},
+    "crews": {"Crew": {
+        "__init__": "**speeds", STATIC + "of": "speeds", CLASS + "read": "text", STATIC + "even": "many, speed=1",
+        "__len__": "", "__iter__": "", "__contains__": "x", "__getitem__": "at", "__add__": "other", "__sub__": "other",
+        "__mul__": "other", "__rmul__": "other", "__le__": "other", "__lt__": "other", "__eq__": "other", "__str__": "",
+        "with_speed": "name, speed"}},
+    "settings": {"Setting": {
+        "__init__": "crew, least=1, most=1, fee=0", CLASS + "read": "text", "late_of": "rest, place, size",
+        "let": "rest, place, limit", "straight": "", "with_crew": "crew", "with_costs": "least, most", "with_fee": "fee",
+        "__le__": "other", "__lt__": "other", "__eq__": "other", "__str__": ""}},
+    "worlds": {"World": {
+        "__init__": "ready, costs, order", CLASS + "read": "text", PROPERTY + "ready": "", "__len__": "", "__iter__": "",
+        "__contains__": "x", "__getitem__": "at", "with_ready": "worker, moment", "with_costs": "costs",
+        "with_order": "order", "__add__": "other", "__eq__": "other", "__str__": ""}},
+    "plays": {
+        "Taking": {"__init__": "worker, at, begun, ended", "__eq__": "other"},
+        "Play": {
+            "__init__": "chunks, setting, world", PROPERTY + "free_at": "", "takings_of": "worker", "__len__": "",
+            "__iter__": "", "__getitem__": "at", "__eq__": "other"},
+        "takings": "chunks, setting, world", "offered": "crew, ready, moment", "perfect_end": "crew, ready, cost"},
 }
 
 

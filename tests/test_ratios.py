@@ -5,7 +5,7 @@ from math import gcd
 
 from latechunks.errors import BadRatio, BadText
 from latechunks.ratios import Ratio
-from tests.helper import Case, values
+from tests.helper import Case, objects, values
 
 UNITS = [(over, under) for over in range(-7, 8) for under in range(-4, 5) if under != 0]
 GREAT = [(10 ** 49 + 9, 10 ** 48 + 7), (-10 ** 49, 3), (7, 10 ** 49), (6 * 10 ** 40, 4 * 10 ** 41), (1, -10 ** 49)]
@@ -93,6 +93,23 @@ class SumsTest(Case):
             self.raises(BadRatio(value), lambda: value > one)
             self.raises(BadRatio(value), lambda: one >= value)
             self.raises(BadRatio(value), lambda: value >= one)
+
+    def test_objects_of_the_package_on_the_right(self):
+        one = Ratio(1, 2)
+        for value in objects():
+            self.raises(BadRatio(value), lambda: one + value)
+            self.raises(BadRatio(value), lambda: one - value)
+            self.raises(BadRatio(value), lambda: one * value)
+            self.raises(BadRatio(value), lambda: one // value)
+            self.raises(BadRatio(value), lambda: one % value)
+            self.raises(BadRatio(value), lambda: one < value)
+            self.raises(BadRatio(value), lambda: one <= value)
+            self.raises(BadRatio(value), lambda: one > value)
+            self.raises(BadRatio(value), lambda: one >= value)
+            self.raises(BadRatio(value), Ratio.of, value)
+            self.raises(BadRatio(value), Ratio.greatest, [one, value])
+            self.is_same(one == value, False)
+            self.is_same(value == one, False)
 
     def test_what_is_wrong_on_the_right_comes_first(self):
         for right in (Ratio(0), Ratio(-1, 2)):

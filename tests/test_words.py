@@ -2,7 +2,7 @@
 
 from latechunks.errors import BadText
 from latechunks.words import Reader, integer_of, integer_text, number_of, read_named, read_worths
-from tests.helper import Case, values
+from tests.helper import Case, everything
 
 NEAR = ["", " ", "-", "--1", "+1", "+0", "-0", "00", "01", "-01", "007", " 1", "1 ", "1\n", "\n1", "1 2", "1_000", "_1",
         "1_", "1.0", "1e3", "0x1", "0b1", "1/2", "1-", "a", "one", "None", "True", "1,000", "- 1", "1-2", "(1)", "~1"]
@@ -27,7 +27,7 @@ class NumberOfTest(Case):
             self.is_same(number_of(word, -10 ** 49, 10 ** 49), None)
 
     def test_what_is_no_string(self):
-        for value in values():
+        for value in everything():
             if type(value) is not str:
                 self.is_same(number_of(value, -10 ** 49, 10 ** 49), None)
 
@@ -66,7 +66,7 @@ class LongIntegersTest(Case):
 
 class ReaderTest(Case):
     def test_no_string(self):
-        for value in values():
+        for value in everything():
             if type(value) is not str:
                 self.raises(BadText(0, 0), Reader, value)
 
