@@ -174,6 +174,13 @@ class PlayTest(Case):
             if value not in ("a", "b"):
                 self.raises(NoWorker(value), play.takings_of, value)
 
+    def test_the_order_decides_at_one_moment(self):
+        setting, chunks = Setting(Crew(a=1, b=3), fee=1), Chunks(2, 2)
+        world = World({"a": Ratio(5, 3), "b": 0}, (2, 2), ("a", "b"))
+        orders = (("a", "b"), ("b", "a"))
+        told = [[row.worker for row in Play(chunks, setting, world.with_order(order))] for order in orders]
+        self.assertEqual(told, [["b", "a"], ["b", "b"]])
+
     def test_later_worlds_are_as_late(self):
         for chunks, setting, world in list(some_plays())[::9]:
             for moment in (1, Ratio(7, 3)):
@@ -270,6 +277,12 @@ class PerfectTest(Case):
             for nothing in (0, Ratio(0)):
                 self.assertIs(type(perfect_end(self.crew, ready, nothing)), Ratio)
                 self.assertEqual(perfect_end(self.crew, ready, nothing), 0)
+
+    def test_by_hand(self):
+        crew, ready = Crew(a=1, b=3), {"a": Ratio(5, 3), "b": 0}
+        told = [offered(crew, {name: ready[name]}, 2) for name in ready] + [offered(crew, ready, 2)]
+        self.assertEqual([str(done) for done in told], ["1/3", "6", "19/3"])
+        self.assertEqual((str(perfect_end(crew, ready, 4)), str(perfect_end(crew, ready, 9))), ("4/3", "8/3"))
 
     def test_arguments_stay_as_they_are(self):
         ready = {"b": 1, "a": Ratio(1, 2)}

@@ -180,6 +180,10 @@ class PartsTest(Case):
                     for place in (0, 3):
                         self.assertEqual(told[0] * size - told[1] * rest, setting.late_of(rest, place, size))
 
+    def test_straight_by_hand(self):
+        self.assertEqual([str(part) for part in Setting(Crew.even(2), 1, 2).straight()], ["3/2", "1/2"])
+        self.assertEqual([str(part) for part in Setting(Crew(a=1, b=3), 1, 3).straight()], ["5/2", "1/4"])
+
     def test_the_order(self):
         some = SETTINGS[::4] + [Setting(Crew(a=1, b=1, c=1), 1, 7, 2), Setting(Crew(a=1, b=1), 1, 2, 2)]
         for one in some:
