@@ -127,7 +127,7 @@ def check_play(chunks, setting, world):
 
 def played(setting, world):
     """The list of the Takings of a play, by chunks: the next chunk goes to whoever is free first."""
-    free = world.ready
+    free = dict(world.ready)
     rows = []
     for at, cost in enumerate(world.costs):
         worker = first_free(free, world.order)

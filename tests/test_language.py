@@ -30,6 +30,7 @@ UNARY = "__neg__ __pos__ __invert__ __abs__ __bool__ __len__ __str__ __repr__ __
 BINARY = [f"__{kind}{name}__" for name in "add sub mul floordiv mod pow and or xor lshift rshift".split()
           for kind in ("", "r", "i") if kind + name != "rpow"]
 BINARY += "__lt__ __le__ __gt__ __ge__ __ne__ __eq__ __contains__ __getitem__".split()
+CHANGING = "append clear extend insert pop remove reverse setdefault sort update add discard".split()
 CHANGES_NOTHING = set(UNARY + BINARY) - {"__enter__"} - {f"__i{name[3:]}" for name in BINARY if name[2] == "i"}
 NODES = (ast.Module, ast.FunctionDef, ast.ClassDef, ast.Return, ast.Delete, ast.Assign, ast.AugAssign, ast.For,
          ast.While, ast.If, ast.With, ast.Raise, ast.Try, ast.Assert, ast.ImportFrom, ast.Expr, ast.Pass, ast.Break,
@@ -65,6 +66,46 @@ def is_static(function):
 def called(node):
     """The bare name that a call calls, the empty string of another node."""
     return node.func.id if isinstance(node, ast.Call) and isinstance(node.func, ast.Name) else ""
+
+
+def root_of(node):
+    """The name that an attribute, an item or a name itself stands off, None of any other node."""
+    while isinstance(node, (ast.Attribute, ast.Subscript)):
+        node = node.value
+    return node.id if isinstance(node, ast.Name) else None
+
+
+def roots_in(nodes):
+    """The names that these nodes read."""
+    return {one.id for node in nodes for one in ast.walk(node) if isinstance(one, ast.Name)}
+
+
+def changed_in(nodes):
+    """The pairs of a node that changes something and the name through which it does."""
+    for node in (one for start in nodes for one in ast.walk(start)):
+        if isinstance(node, (ast.Attribute, ast.Subscript)) and not isinstance(node.ctx, ast.Load):
+            yield node, root_of(node)
+        if isinstance(node, ast.AugAssign):
+            yield node, root_of(node.target)
+        if isinstance(node, ast.Call) and isinstance(node.func, ast.Attribute) and node.func.attr in CHANGING:
+            yield node, root_of(node.func.value)
+
+
+def same_objects(function):
+    """For each name of a function the names whose objects it may share, as it was given something of them as it is."""
+    shared = {}
+    for node in ast.walk(function):
+        if isinstance(node, ast.Assign):
+            values = [node.value.body, node.value.orelse] if isinstance(node.value, ast.IfExp) else [node.value]
+            for root in [root_of(value) for value in values]:
+                for target in node.targets if root else []:
+                    if isinstance(target, ast.Name):
+                        shared.setdefault(target.id, {target.id}).add(root)
+    for _ in shared:
+        for names in shared.values():
+            for name in list(names):
+                names |= shared.get(name, {name})
+    return shared
 
 
 def is_plain(node):
@@ -316,6 +357,20 @@ class LanguageTest(unittest.TestCase):
                 view = isinstance(node, ast.Call) and isinstance(node.func, ast.Attribute) and node.func.attr == "items"
                 if (view or called(node) in ("zip", "enumerate", "range")) and id(node) not in good:
                     self.wrong("L23", name, node)
+
+    def test_what_a_loop_walks_is_not_changed_in_it(self):
+        for name, function in self.nodes(ast.FunctionDef):
+            shared = same_objects(function)
+            for node in ast.walk(function):
+                walked, rows = [], []
+                if isinstance(node, ast.For):
+                    walked, rows = [node.iter], node.body
+                elif isinstance(node, (ast.ListComp, ast.DictComp)):
+                    walked, rows = [one.iter for one in node.generators], [node]
+                roots = {other for root in roots_in(walked) for other in shared.get(root, {root})}
+                for change, root in changed_in(rows):
+                    if shared.get(root, {root}) & roots:
+                        self.wrong("L23", name, change, root)
 
     def test_errors_are_raised_by_name(self):
         for name, node in self.nodes(ast.Raise, ast.Try):
