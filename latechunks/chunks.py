@@ -154,6 +154,12 @@ class Chunks:
         return len([end for end in self.ends if end <= item])
 
 
+def check_chunks(chunks):
+    """A list of chunks is a Chunks."""
+    if not isinstance(chunks, Chunks):
+        raise BadChunks("chunks")
+
+
 def check_many(many):
     """There are at most so many chunks in a list."""
     if many > Chunks.MOST:

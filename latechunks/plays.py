@@ -1,12 +1,12 @@
 """Plays of lists of chunks in worlds."""
 
 from latechunks.checks import is_within
-from latechunks.chunks import Chunks
+from latechunks.chunks import check_chunks
 from latechunks.crews import Crew
-from latechunks.errors import BadChunks, BadCost, BadCrew, BadSetting, BadWorld, NoChunk, NoWorker
+from latechunks.errors import BadCost, BadCrew, BadWorld, NoChunk, NoWorker
 from latechunks.papers import Paper
 from latechunks.ratios import Ratio
-from latechunks.settings import Setting
+from latechunks.settings import check_setting
 from latechunks.worlds import World, by_moments, is_moment, moments_of
 
 
@@ -108,10 +108,8 @@ def perfect_end(crew, ready, cost):
 
 def check_play(chunks, setting, world):
     """The world is one of these chunks and this setting."""
-    if not isinstance(chunks, Chunks):
-        raise BadChunks("chunks")
-    if not isinstance(setting, Setting):
-        raise BadSetting("setting")
+    check_chunks(chunks)
+    check_setting(setting)
     if not isinstance(world, World):
         raise BadWorld("world")
     if not all([name in setting.crew for name in world]):

@@ -1,5 +1,6 @@
 """Settings of loops, and how late one chunk can be."""
 
+from latechunks.bounds import bounds_of, greatest_let
 from latechunks.checks import is_integer, is_within
 from latechunks.crews import Crew, read_speeds
 from latechunks.errors import BadChunks, BadCost, BadFee, BadLimit, BadRest, BadSetting, BadSize
@@ -55,12 +56,8 @@ class Setting:
     def let(self, rest, place, limit):
         """The greatest size from 1 to rest that is at most as late as the limit, 0 if there is none."""
         check_spot(rest, place)
-        if not is_number(limit):
-            raise BadLimit(limit)
-        # Late is the greater one of its two cases, so a size is let if it is within the limit in both.
-        alone = size_within(self, rest, place, limit, self.crew.greatest_speed)
-        shared = size_within(self, rest, place, limit, self.crew.speed)
-        return max(0, min(int(rest), int(alone), int(shared)))
+        check_limit(limit)
+        return greatest_let(bounds_of(self, limit), rest, place)
 
     def straight(self):
         """The pair of two Ratios x, y such that late is always x * size - y * rest."""
@@ -107,11 +104,13 @@ def check_spot(rest, place):
         raise BadChunks("place")
 
 
-def size_within(setting, rest, place, limit, by):
-    """The greatest size, of any sign, for which late is at most the limit, if what is ahead is divided by this."""
-    slow = setting.crew.least_speed
-    start = setting.fee * by + place * setting.fee * setting.crew.greatest_speed - setting.least * rest
-    rise = setting.most * by - (setting.most - setting.least) * slow
-    # Late is start / by + size * rise / (by * slow).
-    most = Ratio.of(limit)
-    return slow * (most.over * by - most.under * start) // (most.under * rise)
+def check_setting(setting):
+    """A setting is a Setting."""
+    if not isinstance(setting, Setting):
+        raise BadSetting("setting")
+
+
+def check_limit(limit):
+    """A limit is a number."""
+    if not is_number(limit):
+        raise BadLimit(limit)

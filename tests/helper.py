@@ -5,8 +5,12 @@ import unittest
 from latechunks import errors
 from latechunks.chunks import Chunks
 from latechunks.crews import Crew
+from latechunks.fewest import Fewest, Greatest, Least, NoList
+from latechunks.late import Latest
+from latechunks.papers import Denial, Paper
 from latechunks.plays import Play, Taking
 from latechunks.ratios import Ratio
+from latechunks.rules import By, Divided, Fixed
 from latechunks.settings import Setting
 from latechunks.worlds import World
 
@@ -36,6 +40,9 @@ def objects():
     return [
         Chunks(), Chunks(2), Chunks(4, 4), crew, Crew(a=1), Setting(crew), Setting(crew, 1, 2, 3), world,
         world.with_ready("b", Ratio(1, 2)), Play(Chunks(2), Setting(crew), world), Taking("a", 0, Ratio(0), Ratio(2)),
+        Latest(Ratio(1, 2), 0, world), Fewest(Chunks(2)), NoList((2, 1)), Greatest(2, Chunks(2)),
+        Least(Ratio(1), Chunks(2), (2,)), Fixed(2), Divided(1, 1, 2), Fixed(2) & Divided(1, 0, 3),
+        Fixed(2) | Divided(1, 0, 3), By(a_function),
     ]
 
 
@@ -63,6 +70,25 @@ class Case(unittest.TestCase):
         self.assertEqual(list(vars(told)), list(vars(error)))
         for field, value in vars(error).items():
             self.assertTrue(same(vars(told)[field], value), f"{field}: {vars(told)[field]!r:.200}, not {value!r:.200}")
+
+    def is_paper(self, kind, fields, base=Paper):
+        """The class keeps any values in these fields and compares them; its papers are false if their base is Denial."""
+        self.assertTrue(issubclass(kind, base))
+        self.is_same(issubclass(kind, Denial), base is Denial)
+        names = fields.split(", ")
+        for value in everything():
+            for at, name in enumerate(names):
+                parts = [str(k) for k in range(len(names))]
+                others = parts[:at] + ["another"] + parts[at + 1:]
+                parts[at] = value
+                for paper in (kind(*parts), kind(**dict(list(zip(names, parts))[::-1]))):
+                    self.assertIs(getattr(paper, name), value)
+                    self.assertEqual(list(vars(paper)), names)
+                    self.is_same(bool(paper), base is not Denial)
+                    self.is_same(paper == kind(*parts), True)
+                    self.is_same(paper == kind(*others), False)
+                    self.is_same(paper != kind(*others), True)
+                    self.is_same(paper == value, False)
 
     def is_same(self, one, other):
         if not same(one, other):

@@ -6,6 +6,9 @@ import unittest
 
 STATIC, CLASS, PROPERTY = "static ", "class ", "property "
 
+OF_EACH_RULE = {"__call__": "rest", "wish": "rest", "list_for": "total", "walk": "total"}
+JOINED = {"__and__": "other", "__or__": "other", "__eq__": "other", "__str__": ""}
+
 INTERFACE = {
     "checks": {"is_integer": "value", "is_within": "value, least, most", "is_size": "value", "is_name": "value"},
     "words": {"number_of": "word, least, most"},
@@ -41,6 +44,28 @@ INTERFACE = {
             "__init__": "chunks, setting, world", PROPERTY + "free_at": "", "takings_of": "worker", "__len__": "",
             "__iter__": "", "__getitem__": "at", "__eq__": "other"},
         "takings": "chunks, setting, world", "offered": "crew, ready, moment", "perfect_end": "crew, ready, cost"},
+    "late": {
+        "lateness_at": "chunks, setting, at", "lateness": "chunks, setting", "all_latenesses": "chunks, setting",
+        "world_at": "chunks, setting, at", "latest": "chunks, setting",
+        "Latest": {"__init__": "late, at, world", "__eq__": "other"}},
+    "look_late": {"shows_latest": "chunks, setting, value"},
+    "fewest": {
+        "fewest": "total, setting, limit", "Fewest": {"__init__": "chunks", "__eq__": "other"},
+        "NoList": {"__init__": "rests", "__eq__": "other"}, "count_fewest": "total, setting, limit",
+        "chunks_within": "total, setting, limit", "greatest_total": "count, setting, limit",
+        "Greatest": {"__init__": "total, chunks", "__eq__": "other"}, "grid": "setting",
+        "least_limit": "total, setting, most=5000", "Least": {"__init__": "limit, chunks, below", "__eq__": "other"},
+        "staircase": "total, setting"},
+    "look_fewest": {
+        "shows_fewest": "total, setting, limit, paper", "shows_greatest": "count, setting, limit, paper",
+        "shows_least": "total, setting, most, paper"},
+    "rules": {
+        "Rule": {STATIC + "read": "text", **OF_EACH_RULE},
+        "Fixed": {"__init__": "size", **JOINED, **OF_EACH_RULE},
+        "Divided": {"__init__": "x, y, w", STATIC + "up": "w", **JOINED, **OF_EACH_RULE},
+        "Lesser": {"__init__": "one, other", **JOINED, **OF_EACH_RULE},
+        "Greater": {"__init__": "one, other", **JOINED, **OF_EACH_RULE},
+        "By": {"__init__": "function", **JOINED, **OF_EACH_RULE}},
 }
 
 

@@ -220,6 +220,7 @@ class LanguageTest(unittest.TestCase):
                 stored = {node.id for node in ast.walk(function)
                           if isinstance(node, ast.Name) and isinstance(node.ctx, ast.Store)}
                 stored |= {node.arg for node in ast.walk(function) if isinstance(node, ast.arg)}
+                stored |= {node.name for node in ast.walk(function) if isinstance(node, ast.ExceptHandler)}
                 for node in ast.walk(function):
                     if isinstance(node, ast.Name) and isinstance(node.ctx, ast.Load):
                         if node.id == "_" or node.id not in stored | known | set(PYTHONS):
@@ -332,6 +333,7 @@ class LanguageTest(unittest.TestCase):
             kinds = {id(one) for node in ast.walk(tree) if called(node) == "isinstance" for one in ast.walk(node.args[1])}
             kinds |= {id(one) for node in ast.walk(tree) if isinstance(node, (ast.ClassDef, ast.FunctionDef))
                       for part in getattr(node, "bases", []) + node.decorator_list for one in ast.walk(part)}
+            kinds |= {id(node.type) for node in ast.walk(tree) if isinstance(node, ast.ExceptHandler)}
             for node in ast.walk(tree):
                 if isinstance(node, ast.Name) and isinstance(node.ctx, ast.Load) and id(node) not in behind | kinds:
                     if node.id in PYTHONS or node.id in self.own_classes:
