@@ -4,8 +4,10 @@ import unittest
 
 from latechunks import errors
 from latechunks.chunks import Chunks
+from latechunks.compared import Counter, Jump, Less, NeverLess, Other, Same, Steady, Surely, Undecided
 from latechunks.crews import Crew
 from latechunks.fewest import Fewest, Greatest, Least, NoList
+from latechunks.judged import Beyond, Bound, Endless, Within
 from latechunks.late import Latest
 from latechunks.papers import Denial, Paper
 from latechunks.plays import Play, Taking
@@ -42,7 +44,9 @@ def objects():
         world.with_ready("b", Ratio(1, 2)), Play(Chunks(2), Setting(crew), world), Taking("a", 0, Ratio(0), Ratio(2)),
         Latest(Ratio(1, 2), 0, world), Fewest(Chunks(2)), NoList((2, 1)), Greatest(2, Chunks(2)),
         Least(Ratio(1), Chunks(2), (2,)), Fixed(2), Divided(1, 1, 2), Fixed(2) & Divided(1, 0, 3),
-        Fixed(2) | Divided(1, 0, 3), By(a_function),
+        Fixed(2) | Divided(1, 0, 3), By(a_function), Bound(Ratio(1, 2), 1), Endless(0, 1), Within([((1, 0, 1),)]),
+        Beyond(1, Ratio(1)), NeverLess(((1,),)), Steady(((1,),)), Same(1, 2), Surely(NeverLess(((1,),)), Steady(((1,),))),
+        Less(1), Jump(1), Other(1), Counter(3, (3, 2)), Undecided(1000),
     ]
 
 

@@ -66,6 +66,24 @@ INTERFACE = {
         "Lesser": {"__init__": "one, other", **JOINED, **OF_EACH_RULE},
         "Greater": {"__init__": "one, other", **JOINED, **OF_EACH_RULE},
         "By": {"__init__": "function", **JOINED, **OF_EACH_RULE}},
+    "residues": {"pieces": "rule"},
+    "judged": {
+        "within": "rule, setting, limit", "greatest_late": "rule, setting",
+        "Bound": {"__init__": "late, rest", "__eq__": "other"}, "Endless": {"__init__": "residue, begin", "__eq__": "other"},
+        "Within": {"__init__": "table", "__eq__": "other"}, "Beyond": {"__init__": "rest, late", "__eq__": "other"}},
+    "look_judged": {
+        "shows_bound": "rule, setting, value", "shows_endless": "rule, setting, value",
+        "shows_within": "rule, setting, limit, value", "shows_beyond": "rule, setting, limit, value"},
+    "compared": {
+        "NeverLess": {"__init__": "begins", "__eq__": "other"}, "Steady": {"__init__": "begins", "__eq__": "other"},
+        "Same": {"__init__": "first, last", "__eq__": "other"}, "Surely": {"__init__": "never, steady", "__eq__": "other"},
+        "Less": {"__init__": "rest", "__eq__": "other"}, "Jump": {"__init__": "rest", "__eq__": "other"},
+        "Other": {"__init__": "rest", "__eq__": "other"}, "Counter": {"__init__": "total, counts", "__eq__": "other"},
+        "Undecided": {"__init__": "upto", "__eq__": "other"}, "never_less": "one, other", "steadiness": "rule",
+        "alike": "one, other", "surely_fewer": "one, other, upto=1000"},
+    "look_compared": {
+        "shows_never_less": "one, other, value", "shows_steady": "rule, value", "shows_alike": "one, other, value",
+        "shows_fewer": "one, other, value, upto=1000"},
 }
 
 
