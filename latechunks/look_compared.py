@@ -1,8 +1,8 @@
 """Looks at papers that compare rules. Nothing is searched: the stretches are told, and each is straight."""
 
 from latechunks.checks import is_integer, is_within
-from latechunks.compared import (Counter, Jump, Less, NeverLess, Other, Same, Steady, Surely, check_upto, kinds_behind,
-                                 kinds_of, modulus_of)
+from latechunks.compared import Counter, Jump, Less, NeverLess, Other, Same, Steady, Surely
+from latechunks.compared import check_upto, kinds_behind, kinds_of, modulus_of
 from latechunks.residues import check_made
 from latechunks.turns import changes_of, first_quotient
 

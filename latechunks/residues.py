@@ -51,9 +51,10 @@ def line_from(rule, residue, begin):
 def first_off(rule, residue, piece, turns):
     """The first quotient from the begin of a piece on at which the size is not as it tells, None if there is none."""
     begin, rise, start = piece
-    # Between two turns the sizes are straight: those at two quotients tell all of them.
-    for turn in [begin, *[turn for turn in turns if turn > begin]]:
-        for quotient in (turn, turn + 1):
+    # From each turn to the next one the sizes are straight: those at two quotients tell all of them.
+    places = [begin, *[turn for turn in turns if turn > begin]]
+    for place in places:
+        for quotient in (place, place + 1):
             if size_at(rule, residue, quotient) != rise * quotient + start:
                 return quotient
     return None

@@ -355,6 +355,18 @@ class LookTest(Case):
             begins = tuple(begins_by_hand([one], one.modulus, (0, 1)))
             self.is_same(shows_steady(one, Steady(begins)), bool(steadiness(one)))
 
+    def test_right_begins_of_what_is_less_on_one_stretch(self):
+        # From 3 on it is always one less.
+        self.is_same(shows_never_less(Fixed(2), Fixed(3), NeverLess(((1, 2, 3),))), False)
+        self.is_same(shows_never_less(Fixed(3), Fixed(2), NeverLess(((1, 2, 3),))), True)
+        # At 9 it is 5 and 6: it falls below just at the last rest of a stretch.
+        one, other = Fixed(5) | Divided(1, -4, 1), Divided(1, 3, 2)
+        begins = ((2, 6, 10), (1, 5, 11))
+        self.assertEqual([rest for rest in range(1, 200) if one(rest) < other(rest)], [9])
+        self.assertTrue(self.right_begins(begins, [one, other], 2))
+        self.is_same(shows_never_less(one, other, NeverLess(begins)), False)
+        self.is_same(shows_never_less(one | Fixed(6), other, NeverLess(tuple(begins_by_hand([one | Fixed(6), other], 2)))), True)
+
     def test_any_rest_at_which_it_is_so(self):
         for one, other in pairs(13, 60):
             for rest in [*range(1, 60), 10 ** 49, 10 ** 49 + 1]:
@@ -473,7 +485,7 @@ class WrongTest(Case):
         self.raises(BadRule("function"), shows_steady, By(a_function), None)
 
     def test_totals(self):
-        for value in integers_but(0, 10000):
+        for value in integers_but(0, 10000) + [-1, 10001]:
             self.raises(BadTotal(value), surely_fewer, HALF, THIRD, value)
             self.raises(BadTotal(value), shows_fewer, HALF, THIRD, None, value)
             self.raises(BadTotal(value), surely_fewer, HALF, THIRD, upto=value)

@@ -176,7 +176,8 @@ class MadeTest(Case):
         self.is_same(By(lambda rest: 1) == By(lambda rest: 1), False)
         self.is_same(Lesser(Fixed(1), Fixed(2)) == Greater(Fixed(1), Fixed(2)), False)
         self.is_same(Lesser(Fixed(1), Fixed(2)) == Lesser(Fixed(2), Fixed(1)), False)
-        self.is_same(Divided(1, 0, 1) == Divided(1, 0, 2), False)
+        for other in (Divided(2, 2, 3), Divided(1, 3, 3), Divided(1, 2, 4)):
+            self.is_same(Divided(1, 2, 3) == other, False)
 
 
 def parts_of(text):
@@ -212,6 +213,9 @@ class ByTest(Case):
         self.assertEqual(asked, [9, 8, 10, 6, 2])
         self.assertEqual([next(steps), asked[5:]], [(10, 4), [10]])
         self.assertEqual([list(steps), asked[5:]], [[(6, 4), (2, 2)], [10, 6, 2]])
+        del asked[:]
+        self.raises(TooMany("chunks", 5000), by.list_for, GREAT)
+        self.assertEqual(asked, [GREAT - 4 * count for count in range(5000)])
         del asked[:]
         for value in (0, -1, True, None):
             self.raises(BadRest(value), by, value)
