@@ -11,6 +11,7 @@ from latechunks.words import Reader
 MOST_RESIDUES = 5000
 
 
+# Each class repeats what all rules have: methods that are told of a class stand in the body of that class.
 class Rule:
     """The base of all rules; it is not made itself, and each class below it has its own wish."""
 

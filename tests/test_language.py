@@ -360,6 +360,36 @@ class LanguageTest(unittest.TestCase):
                 if (view or called(node) in ("zip", "enumerate", "range")) and id(node) not in good:
                     self.wrong("L23", name, node)
 
+    def test_generators_are_iterated_at_once(self):
+        own = [(node, {one for one in ast.walk(node) if isinstance(one, (ast.Yield, ast.YieldFrom))})
+               for _, node in self.nodes(ast.FunctionDef)]
+        generators = {node.name for node, yields in own if yields}
+        self.assertEqual({node.name for node, yields in own if not yields} & generators, set(), "L23")
+        for name, _, tree in self.files:
+            good = set()
+            for node in ast.walk(tree):
+                if isinstance(node, (ast.For, ast.comprehension)):
+                    good.add(id(node.iter))
+                if isinstance(node, ast.YieldFrom):
+                    good.add(id(node.value))
+                if called(node) in ("list", "tuple", "dict", "sorted", "sum", "any", "all", "enumerate", "zip"):
+                    good |= {id(one) for one in node.args}
+            for node in ast.walk(tree):
+                word = called(node) or (isinstance(node, ast.Call) and getattr(node.func, "attr", ""))
+                if word in generators and id(node) not in good:
+                    self.wrong("L23", name, node, word)
+
+    def test_stars_stand_before_names(self):
+        for name, node in self.nodes(ast.Call):
+            if any(isinstance(one, ast.Starred) and not isinstance(one.value, ast.Name) for one in node.args):
+                self.wrong("L7", name, node)
+            if any(one.arg is None and not isinstance(one.value, ast.Name) for one in node.keywords):
+                self.wrong("L7", name, node)
+
+    def test_no_two_lambdas_on_one_line(self):
+        rows = [(name, node.lineno) for name, node in self.nodes(ast.Lambda)]
+        self.assertEqual(len(rows), len(set(rows)), "L13")
+
     def test_what_a_loop_walks_is_not_changed_in_it(self):
         for name, function in self.nodes(ast.FunctionDef):
             shared = same_objects(function)
