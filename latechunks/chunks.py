@@ -36,7 +36,7 @@ class Chunks:
     def read(cls, text):
         """The Chunks of which str tells this text."""
         reader = Reader(text)
-        sizes = read_worths(reader, lambda word: number_of(word, 1, GREATEST_SIZE))
+        sizes = read_sizes(reader)
         reader.finish()
         return cls.of(sizes)
 
@@ -178,6 +178,11 @@ def check_other(other, total=None):
         raise BadChunks("other")
     if total is not None and total != other.total:
         raise BadChunks("total")
+
+
+def read_sizes(reader):
+    """The list of the sizes of chunks, up to a parting sign or the end."""
+    return read_worths(reader, lambda word: number_of(word, 1, GREATEST_SIZE))
 
 
 def sizes_between(ends):

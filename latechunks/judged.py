@@ -1,9 +1,8 @@
 """Rules judged for all lengths of loops: how late their lists can be at all rests."""
 
-from latechunks.errors import BadSetting
 from latechunks.papers import Denial, Paper
 from latechunks.residues import check_made, pieces
-from latechunks.settings import check_limit, check_setting
+from latechunks.settings import check_limit, check_unpaid
 
 
 class Bound(Paper):
@@ -82,9 +81,7 @@ def within(rule, setting, limit):
 def check_judged(rule, setting):
     """A rule without functions is judged in a setting without a fee."""
     check_made(rule)
-    check_setting(setting)
-    if setting.fee > 0:
-        raise BadSetting("fee")
+    check_unpaid(setting)
 
 
 def late_at(rule, setting, rest):

@@ -7,6 +7,7 @@ from latechunks.papers import Paper
 from latechunks.ratios import Ratio
 from latechunks.settings import check_setting
 from latechunks.worlds import World
+from latechunks.worths import greatest_worth, late_for, worths_of
 
 
 class Latest(Paper):
@@ -31,13 +32,13 @@ def lateness_at(chunks, setting, at):
 def all_latenesses(chunks, setting):
     """The tuple of lateness_at of all places."""
     check_list(chunks, setting)
-    return tuple([lateness_at(chunks, setting, at) for at in range(len(chunks))])
+    return tuple([late_for(worth, setting) for worth in worths_of(chunks, setting)])
 
 
 def lateness(chunks, setting):
     """The greatest lateness of a list over all worlds, None without chunks."""
-    lates = all_latenesses(chunks, setting)
-    return Ratio.greatest(lates) if lates else None
+    check_list(chunks, setting)
+    return late_for(greatest_worth(chunks, setting), setting) if len(chunks) > 0 else None
 
 
 def world_at(chunks, setting, at):
@@ -54,11 +55,10 @@ def world_at(chunks, setting, at):
 
 def latest(chunks, setting):
     """The greatest lateness of a list, the least place of a chunk that has it, and the worst world at it."""
-    lates = all_latenesses(chunks, setting)
-    if not lates:
+    late = lateness(chunks, setting)
+    if late is None:
         return None
-    late = Ratio.greatest(lates)
-    at = lates.index(late)
+    at = worths_of(chunks, setting).index(greatest_worth(chunks, setting))
     return Latest(late, at, world_at(chunks, setting, at))
 
 

@@ -110,6 +110,13 @@ def check_setting(setting):
         raise BadSetting("setting")
 
 
+def check_unpaid(setting):
+    """A setting is a Setting without a fee."""
+    check_setting(setting)
+    if setting.fee > 0:
+        raise BadSetting("fee")
+
+
 def check_limit(limit):
     """A limit is a number."""
     if not is_number(limit):

@@ -44,12 +44,13 @@ def number_of(word, least, most):
 
 
 class Reader:
-    """The words of a text, one at hand after the other; BadText tells the first one that cannot stand."""
+    """The words of a text, or of one of its rows; BadText tells the first one that cannot stand."""
 
-    def __init__(self, text):
+    def __init__(self, text, row=0):
         if not isinstance(text, str):
             raise BadText(0, 0)
         self._words = text.split(" ")
+        self._row = row
         self._at = 0
 
     def at_hand(self):
@@ -58,7 +59,7 @@ class Reader:
 
     def refuse(self):
         """The word at hand cannot stand, or is missing."""
-        raise BadText(0, self._at)
+        raise BadText(self._row, self._at)
 
     def take(self, worth):
         """Goes on behind the word at hand, and returns its worth; without a worth, None, it cannot stand."""
@@ -76,8 +77,8 @@ class Reader:
         self.take(sign if self.at_hand() == sign else None)
 
     def more(self):
-        """Whether a word is at hand that is no stroke."""
-        return self.at_hand() not in (None, "/")
+        """Whether a word is at hand that does not part what is read from what comes behind it."""
+        return self.at_hand() not in (None, "/", ";")
 
     def finish(self):
         """No word may be left."""
@@ -86,7 +87,7 @@ class Reader:
 
 
 def read_worths(reader, worth_of):
-    """The list of one worth or more, up to a stroke or the end; a single `-` stands for none."""
+    """The list of one worth or more, up to a parting sign or the end; a single `-` stands for none."""
     worths = []
     if reader.at_hand() == "-":
         reader.expect("-")
@@ -97,7 +98,7 @@ def read_worths(reader, worth_of):
 
 
 def read_named(reader, worth_of, most=None):
-    """The dict of one name or more, ascending, each with the worth behind it, up to a stroke or the end."""
+    """The dict of one name or more, ascending, each with the worth behind it, up to a parting sign or the end."""
     worths = {}
     last = ""
     while not worths or reader.more():

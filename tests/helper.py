@@ -3,12 +3,15 @@
 import unittest
 
 from latechunks import errors
+from latechunks.batches import BatchBound, BatchEndless, Batched
 from latechunks.chunks import Chunks
 from latechunks.compared import Counter, Jump, Less, NeverLess, Other, Same, Steady, Surely, Undecided
 from latechunks.crews import Crew
 from latechunks.fewest import Fewest, Greatest, Least, NoList
 from latechunks.judged import Beyond, Bound, Endless, Within
 from latechunks.late import Latest
+from latechunks.logs import Came, Fits, Log, Misfit, Ring
+from latechunks.loops import BestOrder, Loops
 from latechunks.papers import Denial, Paper
 from latechunks.plays import Play, Taking
 from latechunks.ratios import Ratio
@@ -46,7 +49,10 @@ def objects():
         Least(Ratio(1), Chunks(2), (2,)), Fixed(2), Divided(1, 1, 2), Fixed(2) & Divided(1, 0, 3),
         Fixed(2) | Divided(1, 0, 3), By(a_function), Bound(Ratio(1, 2), 1), Endless(0, 1), Within([((1, 0, 1),)]),
         Beyond(1, Ratio(1)), NeverLess(((1,),)), Steady(((1,),)), Same(1, 2), Surely(NeverLess(((1,),)), Steady(((1,),))),
-        Less(1), Jump(1), Other(1), Counter(3, (3, 2)), Undecided(1000),
+        Less(1), Jump(1), Other(1), Counter(3, (3, 2)), Undecided(1000), Batched(2, 4), BatchBound(Ratio(1, 2), 1, 0),
+        BatchEndless(1, Ratio(1, 2)), Loops(), Loops(("a", Chunks(2)), ("b", Chunks())), BestOrder(("a",), Ratio(1), "a"),
+        Log(Chunks(), Setting(crew), ()), Log.of(Play(Chunks(2), Setting(crew), world)), Fits(world), Misfit(0, "idle"),
+        Ring(("a", "b")), Came(1, 2),
     ]
 
 

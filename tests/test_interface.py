@@ -84,6 +84,29 @@ INTERFACE = {
     "look_compared": {
         "shows_never_less": "one, other, value", "shows_steady": "rule, value", "shows_alike": "one, other, value",
         "shows_fewer": "one, other, value, upto=1000"},
+    "batches": {
+        "Batched": {
+            "__init__": "many, over", CLASS + "read": "text", "batches": "total", "cut": "total", "__eq__": "other",
+            "__str__": ""},
+        "greatest_batched": "batched, setting", "BatchBound": {"__init__": "late, rest, spot", "__eq__": "other"},
+        "BatchEndless": {"__init__": "spot, rise", "__eq__": "other"}},
+    "look_batches": {"shows_batched": "batched, setting, value"},
+    "loops": {
+        "Loops": {
+            "__init__": "*pairs", CLASS + "read": "text", "joined": "", "__getitem__": "at", "__contains__": "x",
+            "__len__": "", "__iter__": "", "until": "name", "ordered": "*names", "__add__": "other", "__eq__": "other",
+            "__str__": ""},
+        "end_lateness": "loops, setting, name", "best_order": "loops, setting",
+        "BestOrder": {"__init__": "names, late, last", "__eq__": "other"}},
+    "look_loops": {"shows_best_order": "loops, setting, paper"},
+    "logs": {
+        "Log": {
+            "__init__": "chunks, setting, takings", STATIC + "of": "play", "__getitem__": "at", "__len__": "",
+            "__iter__": "", "__eq__": "other"},
+        "fitting": "log", "Fits": {"__init__": "world", "__eq__": "other"},
+        "Misfit": {"__init__": "at, why", "__eq__": "other"}, "Ring": {"__init__": "workers", "__eq__": "other"},
+        "lateness_between": "log", "untold": "chunks, setting, times",
+        "Came": {"__init__": "least, most", "__eq__": "other"}},
 }
 
 
