@@ -41,8 +41,8 @@ class Ratio:
     @classmethod
     def read(cls, text):
         """The Ratio of which str tells this text."""
-        value = ratio_of(text)
-        if value is None or not is_readable(text):
+        value = worth_of(text)
+        if value is None:
             raise BadText(0, 0)
         return value
 
@@ -143,7 +143,13 @@ def ratio_of(word):
     return Ratio(over, under)
 
 
+def worth_of(word):
+    """The Ratio that any value writes just as str does, None if it writes none or one of too many figures."""
+    value = ratio_of(word)
+    return value if value is not None and is_readable(word) else None
+
+
 def is_readable(text):
-    """Whether no side of the stroke has more figures than can be read."""
+    """Whether no side of the stroke has too many figures."""
     over_word, _, under_word = text.partition("/")
     return len(over_word.removeprefix("-")) <= MOST_FIGURES and len(under_word) <= MOST_FIGURES

@@ -21,7 +21,7 @@ class Rule:
         reader = Reader(text)
         told = read_rule(reader)
         reader.finish()
-        return joined(told)
+        return rule_of(told)
 
     def __call__(self, rest):
         return chunk_for(rest, self.wish(rest))
@@ -281,13 +281,18 @@ def chunk_for(rest, wish):
 def list_by(rule, total):
     """The Chunks that a rule cuts of so many items."""
     check_total(total)
+    return Chunks.of(sizes_by(rule, total, 0))
+
+
+def sizes_by(rule, total, ahead):
+    """The list of the sizes that a rule cuts of so many items, behind so many chunks of a list."""
     sizes = []
     left = total
     while left > 0:
-        check_many(len(sizes) + 1)
+        check_many(ahead + len(sizes) + 1)
         sizes.append(rule(left))
         left = left - sizes[-1]
-    return Chunks.of(sizes)
+    return sizes
 
 
 def steps_by(rule, total):
@@ -300,7 +305,7 @@ def steps_by(rule, total):
         left = left - size
 
 
-def joined(told):
+def rule_of(told):
     """The rule of which the words told this, in order: parts, and each sign behind what it joins."""
     rules = []
     for item in told:

@@ -33,12 +33,7 @@ class Setting:
     def read(cls, text):
         """The Setting of which str tells this text."""
         reader = Reader(text)
-        speeds = read_speeds(reader)
-        reader.expect("/")
-        least = reader.integer(1, GREATEST_COST)
-        most = reader.integer(least, GREATEST_COST)
-        reader.expect("/")
-        fee = reader.integer(0, GREATEST_FEE)
+        speeds, least, most, fee = read_setting(reader)
         reader.finish()
         return cls(Crew.of(speeds), least, most, fee)
 
@@ -94,6 +89,26 @@ class Setting:
 
     def __str__(self):
         return f"{self.crew} / {self.least} {self.most} / {self.fee}"
+
+
+def read_setting(reader):
+    """What the words of a setting tell: the speeds of its crew, the two costs and the fee."""
+    speeds = read_speeds(reader)
+    reader.expect("/")
+    least, most = read_costs(reader)
+    reader.expect("/")
+    return speeds, least, most, read_fee(reader)
+
+
+def read_costs(reader):
+    """The least and the greatest cost of an item."""
+    least = reader.integer(1, GREATEST_COST)
+    return least, reader.integer(least, GREATEST_COST)
+
+
+def read_fee(reader):
+    """The fee of a taking."""
+    return reader.integer(0, GREATEST_FEE)
 
 
 def check_spot(rest, place):

@@ -29,11 +29,7 @@ class World:
     def read(cls, text):
         """The World of which str tells this text."""
         reader = Reader(text)
-        ready = read_named(reader, moment_of)
-        reader.expect("/")
-        costs = read_worths(reader, cost_of)
-        reader.expect("/")
-        order = read_order(reader)
+        ready, costs, order = read_world(reader)
         reader.finish()
         return cls(ready, costs, order)
 
@@ -144,6 +140,15 @@ def cost_of(word):
     """The cost of a chunk that any value writes, None if it writes none."""
     cost = integer_of(word)
     return None if cost is None or cost < 1 else cost
+
+
+def read_world(reader):
+    """What the words of a world tell: the moments, the costs and the order."""
+    ready = read_named(reader, moment_of)
+    reader.expect("/")
+    costs = read_worths(reader, cost_of)
+    reader.expect("/")
+    return ready, costs, read_order(reader)
 
 
 def read_order(reader):

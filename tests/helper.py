@@ -2,11 +2,12 @@
 
 import unittest
 
-from latechunks import errors
+from latechunks import cases, errors
 from latechunks.batches import BatchBound, BatchEndless, Batched
 from latechunks.chunks import Chunks
 from latechunks.compared import Counter, Jump, Less, NeverLess, Other, Same, Steady, Surely, Undecided
 from latechunks.crews import Crew
+from latechunks.desk import Desk
 from latechunks.fewest import Fewest, Greatest, Least, NoList
 from latechunks.judged import Beyond, Bound, Endless, Within
 from latechunks.late import Latest
@@ -14,6 +15,7 @@ from latechunks.logs import Came, Fits, Log, Misfit, Ring
 from latechunks.loops import BestOrder, Loops
 from latechunks.papers import Denial, Paper
 from latechunks.plays import Play, Taking
+from latechunks.pool import Pool, PoolTaking
 from latechunks.ratios import Ratio
 from latechunks.rules import By, Divided, Fixed
 from latechunks.settings import Setting
@@ -52,7 +54,8 @@ def objects():
         Less(1), Jump(1), Other(1), Counter(3, (3, 2)), Undecided(1000), Batched(2, 4), BatchBound(Ratio(1, 2), 1, 0),
         BatchEndless(1, Ratio(1, 2)), Loops(), Loops(("a", Chunks(2)), ("b", Chunks())), BestOrder(("a",), Ratio(1), "a"),
         Log(Chunks(), Setting(crew), ()), Log.of(Play(Chunks(2), Setting(crew), world)), Fits(world), Misfit(0, "idle"),
-        Ring(("a", "b")), Came(1, 2),
+        Ring(("a", "b")), Came(1, 2), Pool(Setting(crew), Fixed(2)), PoolTaking("a", "b", 1, Ratio(0), Ratio(1)),
+        cases.Case(Setting(crew)), Desk(),
     ]
 
 

@@ -26,7 +26,8 @@ def answer_of(code, names):
         except SyntaxError:
             exec(code, names)
             return None
-        return repr(eval(compiled, names))
+        answer = eval(compiled, names)
+        return None if answer is None else repr(answer)
     except LateError as error:
         return f"raises {type(error).__name__}({', '.join(repr(value) for value in vars(error).values())})"
 

@@ -107,6 +107,23 @@ INTERFACE = {
         "Misfit": {"__init__": "at, why", "__eq__": "other"}, "Ring": {"__init__": "workers", "__eq__": "other"},
         "lateness_between": "log", "untold": "chunks, setting, times",
         "Came": {"__init__": "least, most", "__eq__": "other"}},
+    "look_logs": {"shows_log": "log, paper"},
+    "pool": {
+        "PoolTaking": {"__init__": "loop, worker, many, begun, ended", "__eq__": "other"},
+        "Pool": {
+            "__init__": "setting, rule, work=None", PROPERTY + "now": "", PROPERTY + "waiting": "", PROPERTY + "here": "",
+            PROPERTY + "log": "", PROPERTY + "rule": "", PROPERTY + "deeds": "", "__len__": "", "__iter__": "",
+            "add": "name, items", "__getitem__": "at", "__setitem__": "at, worth", "__contains__": "x",
+            "come": "worker, time", "run": "until", "busy_until": "worker", "end_of": "name", "set_rule": "rule",
+            "ahead": "", "bound": "", "undo": "", "trial": "", "tried": "ask", "twin": "", "__eq__": "other"}},
+    "cases": {"Case": {
+        "__init__": "setting, chunks=None, cut_by=None, world=None", "__eq__": "other",
+        "with_parts": "chunks=None, cut_by=None, world=None"}},
+    "texts": {"case_text": "case", "log_text": "log", "paper_text": "paper"},
+    "reading": {"read_case": "text", "read_log": "text, setting", "read_paper": "text"},
+    "desk": {"Desk": {
+        "__init__": "", "__call__": "line", "run": "*lines", "__len__": "", "changes": "", "__bool__": "", "trial": "",
+        "tried": "work", CLASS + "read": "text"}},
 }
 
 

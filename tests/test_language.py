@@ -63,6 +63,16 @@ def is_static(function):
     return any(isinstance(one, ast.Name) and one.id == "staticmethod" for one in function.decorator_list)
 
 
+def is_setter(function):
+    return any(isinstance(one, ast.Attribute) and one.attr == "setter" for one in function.decorator_list)
+
+
+def without_decorators(function):
+    """All nodes of a function but those of its decorators."""
+    left_out = {id(node) for one in function.decorator_list for node in ast.walk(one)}
+    return [node for node in ast.walk(function) if id(node) not in left_out]
+
+
 def called(node):
     """The bare name that a call calls, the empty string of another node."""
     return node.func.id if isinstance(node, ast.Call) and isinstance(node.func, ast.Name) else ""
@@ -221,7 +231,7 @@ class LanguageTest(unittest.TestCase):
                           if isinstance(node, ast.Name) and isinstance(node.ctx, ast.Store)}
                 stored |= {node.arg for node in ast.walk(function) if isinstance(node, ast.arg)}
                 stored |= {node.name for node in ast.walk(function) if isinstance(node, ast.ExceptHandler)}
-                for node in ast.walk(function):
+                for node in without_decorators(function):
                     if isinstance(node, ast.Name) and isinstance(node.ctx, ast.Load):
                         if node.id == "_" or node.id not in stored | known | set(PYTHONS):
                             self.wrong("L12", name, node, node.id)
@@ -237,7 +247,7 @@ class LanguageTest(unittest.TestCase):
             if isinstance(node.func, ast.Attribute) and node.func.attr not in METHODS | self.methods:
                 self.wrong("L25", name, node, node.func.attr)
         for name, node in self.nodes(ast.Attribute):
-            if isinstance(node.ctx, ast.Load) and node.attr not in attributes | self.methods | METHODS | values:
+            if isinstance(node.ctx, ast.Load) and node.attr not in attributes | self.methods | METHODS | values | {"setter"}:
                 self.wrong("L18", name, node, node.attr)
 
     def test_classes(self):
@@ -248,7 +258,11 @@ class LanguageTest(unittest.TestCase):
             if "__getitem__" in known and "__iter__" not in known:
                 self.wrong("L5", name, node)
             kept = [one for one in node.body if isinstance(one, ast.FunctionDef)]
-            self.assertEqual(len(known), len(kept), f"L18: {node.name}")
+            single = [one.name for one in kept if not is_setter(one)]
+            self.assertEqual(len(known), len(single), f"L18: {node.name}")
+            for one in kept:
+                if is_setter(one) and (one.name not in single or len(one.args.args) != 2):
+                    self.wrong("L5", name, one)
             for function in kept:
                 self.look_at_method(name, function)
 
@@ -275,8 +289,13 @@ class LanguageTest(unittest.TestCase):
                     self.wrong("L28", name, function)
         if function.name == "__len__" and not all(called(value) == "len" for value in returns):
             self.wrong("L28", name, function)
-        if function.name == "__iter__" and not (len(function.body) == 1 and called(function.body[0].value) == "iter"):
-            self.assertIsInstance(function.body[0], ast.Raise, "L5")
+        if function.name == "__iter__" and not isinstance(function.body[0], ast.Raise):
+            self.assertTrue(len(function.body) == 1 and called(function.body[0].value) == "iter", "L5")
+        if function.name == "__exit__":
+            for node in function.body:
+                plain = isinstance(node, ast.Assign) and isinstance(node.value, (ast.Attribute, ast.Name))
+                if not plain or not all(isinstance(one, ast.Attribute) for one in node.targets):
+                    self.wrong("L6", name, node)
         if function.name in CHANGES_NOTHING:
             for node in ast.walk(function):
                 stores = isinstance(node, (ast.Attribute, ast.Subscript)) and not isinstance(node.ctx, ast.Load)
