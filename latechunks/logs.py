@@ -6,7 +6,7 @@ from latechunks.errors import BadLog, BadSetting, NoChunk
 from latechunks.misfits import Ahead, cost_at, cost_for, word_for
 from latechunks.papers import Denial, Paper
 from latechunks.plays import Play, Taking, perfect_end
-from latechunks.ratios import Ratio
+from latechunks.ratios import Ratio, gap_between
 from latechunks.settings import check_setting
 from latechunks.standing import Standing, betters_of, least_order, ring_of
 from latechunks.worlds import World, is_moment
@@ -128,21 +128,25 @@ def untold(chunks, setting, times):
         raise BadSetting("speeds")
     if not are_times(times, chunks):
         raise BadLog("times")
-    # Ends that nothing has begun at, and how many workers have come.
+    # The ends at which nothing has begun, and how many workers have come at least.
     ends = []
     came = 0
     for at, (begun, ended) in enumerate(times):
-        why = word_untold(chunks, setting, times, at, ends)
+        gaps = [gap_between(end, begun) for end in ends]
+        why = word_untold(chunks, setting, times, at, gaps)
         if why is not None:
             return Misfit(at, why)
-        goes_on = [end for end in ends if end == begun]
-        came = came if goes_on else came + 1
-        ends = [end for end in ends if end != begun] + goes_on[1:] + [ended]
+        # Somebody who ends just then goes on, or else somebody new has come.
+        if 0 in gaps:
+            ends.pop(gaps.index(0))
+        else:
+            came += 1
+        ends.append(ended)
     return Came(came, min(len(crew), greatest_came(times, came)))
 
 
-def word_untold(chunks, setting, times, at, ends):
-    """The first word that applies to a taking without a worker, None if it can be."""
+def word_untold(chunks, setting, times, at, gaps):
+    """The first word that applies to a taking without a worker, None if it can be; gaps lead from it to open ends."""
     begun, ended = times[at]
     crew = setting.crew
     if cost_for(setting, crew.least_speed, chunks.sizes[at], begun, ended) is None:
@@ -150,9 +154,9 @@ def word_untold(chunks, setting, times, at, ends):
     if at > 0 and begun < times[at - 1][0]:
         return "order"
     # Whoever ends while something is left begins something just then.
-    if any([end < begun for end in ends]):
+    if any([gap < 0 for gap in gaps]):
         return "idle"
-    working = [end for end in ends if end > begun]
+    working = [gap for gap in gaps if gap > 0]
     return None if len(working) < len(crew) else "worker"
 
 

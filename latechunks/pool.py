@@ -2,12 +2,13 @@
 
 from latechunks.checks import GREATEST_SIZE, is_name, is_size, is_within
 from latechunks.chunks import Chunks
+from latechunks.cutting import sizes_by
 from latechunks.errors import BadName, BadPool, BadTotal, NoWorker
 from latechunks.history import History, Trial
 from latechunks.late import lateness
 from latechunks.papers import Paper
 from latechunks.ratios import Ratio, is_number
-from latechunks.rules import Rule, sizes_by
+from latechunks.rules import Rule
 from latechunks.running import PoolState, Run, waiting_in
 from latechunks.settings import Setting
 

@@ -54,7 +54,8 @@ class Ratio:
         return self + other
 
     def __sub__(self, other):
-        return self + -Ratio.of(other)
+        taken = Ratio.of(other)
+        return Ratio(self.over * taken.under - taken.over * self.under, self.under * taken.under)
 
     def __rsub__(self, other):
         return Ratio.of(other) - self
@@ -122,6 +123,13 @@ class Ratio:
     def ceiling(self):
         """The least integer that is at least this."""
         return -(-self.over // self.under)
+
+
+def gap_between(one, other):
+    """An integer that is below 0, 0, or above 0 as one number is less than another one, equal to it, or greater."""
+    ratio = Ratio.of(one)
+    against = Ratio.of(other)
+    return ratio.over * against.under - against.over * ratio.under
 
 
 def is_number(value):

@@ -3,7 +3,8 @@
 from math import lcm
 
 from latechunks.checks import is_integer, is_size
-from latechunks.chunks import Chunks, check_many, check_total
+from latechunks.chunks import Chunks, check_total
+from latechunks.cutting import sizes_by
 from latechunks.errors import BadRest, BadRule, BadSize, LateError, TooMany
 from latechunks.rulewords import MOST_PARTS, is_factor, is_start, read_rule
 from latechunks.words import Reader
@@ -145,7 +146,9 @@ class Lesser(Rule):
 
     def wish(self, rest):
         """The size that is wished for a rest."""
-        return min(int(self.one.wish(rest)), int(self.other.wish(rest)))
+        one = self.one.wish(rest)
+        other = self.other.wish(rest)
+        return one if one < other else other
 
     def list_for(self, total):
         """The Chunks that the rule cuts of so many items."""
@@ -183,7 +186,9 @@ class Greater(Rule):
 
     def wish(self, rest):
         """The size that is wished for a rest."""
-        return max(int(self.one.wish(rest)), int(self.other.wish(rest)))
+        one = self.one.wish(rest)
+        other = self.other.wish(rest)
+        return one if one > other else other
 
     def list_for(self, total):
         """The Chunks that the rule cuts of so many items."""
@@ -275,24 +280,15 @@ def check_modulus(modulus):
 
 def chunk_for(rest, wish):
     """The chunk that is cut of a rest if this is wished."""
-    return max(1, min(int(rest), wish))
+    if wish < 1:
+        return 1
+    return rest if wish > rest else wish
 
 
 def list_by(rule, total):
     """The Chunks that a rule cuts of so many items."""
     check_total(total)
     return Chunks.of(sizes_by(rule, total, 0))
-
-
-def sizes_by(rule, total, ahead):
-    """The list of the sizes that a rule cuts of so many items, behind so many chunks of a list."""
-    sizes = []
-    left = total
-    while left > 0:
-        check_many(ahead + len(sizes) + 1)
-        sizes.append(rule(left))
-        left = left - sizes[-1]
-    return sizes
 
 
 def steps_by(rule, total):
