@@ -118,9 +118,9 @@ def best_order(loops, setting):
 
 def by_worths(owns):
     """The names of a dict to integers, by falling integers, those of equal ones ascending."""
-    worths = sorted(set([owns[name] for name in owns]), reverse=True)
+    worths = sorted(set([owns[name] for name in owns]))
     names = sorted([str(name) for name in owns])
-    return [name for worth in worths for name in names if owns[name] == worth]
+    return [name for worth in worths[::-1] for name in names if owns[name] == worth]
 
 
 def loop_at(loops, place):

@@ -2,6 +2,7 @@
 
 from latechunks.checks import is_within
 from latechunks.chunks import check_chunks
+from latechunks.clock import Clock
 from latechunks.crews import Crew
 from latechunks.errors import BadCost, BadCrew, BadWorld, NoChunk, NoWorker
 from latechunks.papers import Paper
@@ -125,23 +126,13 @@ def check_play(chunks, setting, world):
 
 def played(setting, world):
     """The list of the Takings of a play, by chunks: the next chunk goes to whoever is free first."""
-    free = dict(world.ready)
+    clock = Clock(setting, world.order, world.ready)
     rows = []
     for at, cost in enumerate(world.costs):
-        worker = first_free(free, world.order)
-        begun = free[worker]
-        free[worker] = begun + setting.fee + Ratio(cost, setting.crew[worker])
-        rows.append(Taking(worker, at, begun, free[worker]))
+        worker = clock.next_worker()
+        begun, ended = clock.spend(worker, cost)
+        rows.append(Taking(worker, at, begun, ended))
     return rows
-
-
-def first_free(free, order):
-    """The worker that is free first, of several the one that stands first in the order."""
-    found = None
-    for name in order:
-        if name in free and (found is None or free[name] < free[found]):
-            found = name
-    return found
 
 
 def free_behind(rows, world):

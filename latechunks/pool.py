@@ -130,7 +130,8 @@ class Pool:
         """The Chunks that would be taken from now on, if nothing is added or changed."""
         sizes = []
         for _, items in self.waiting:
-            sizes.extend(sizes_by(self.rule, items, len(sizes)))
+            more = sizes_by(self.rule, items, len(sizes))
+            sizes.extend(more)
         return Chunks.of(sizes)
 
     def bound(self):

@@ -361,7 +361,8 @@ class LanguageTest(unittest.TestCase):
 
     def test_sets_stand_where_they_may(self):
         for name, _, tree in self.files:
-            good = {id(one) for node in ast.walk(tree) if called(node) in ("sorted", "len") for one in node.args}
+            good = {id(one) for node in ast.walk(tree) if called(node) in ("sorted", "len") and not node.keywords
+                    for one in node.args}
             for node in ast.walk(tree):
                 if (called(node) == "set" or isinstance(node, ast.SetComp)) and id(node) not in good:
                     self.wrong("L24", name, node)
