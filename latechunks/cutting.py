@@ -39,6 +39,18 @@ def sizes_in_rows(rule, total, ahead):
     return sizes
 
 
+def count_by(rule, total):
+    """How many chunks a rule, without a function within it, cuts of so many items."""
+    count = 0
+    left = total
+    while left > 0:
+        size = rule(left)
+        many = count_in_row(rule, left, size)
+        count = count + many
+        left = left - size * many
+    return count
+
+
 def count_in_row(rule, left, size):
     """How many chunks of this size are cut in a row from a rest on, which has it."""
     many = 1

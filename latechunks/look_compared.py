@@ -3,6 +3,7 @@
 from latechunks.checks import is_integer, is_within
 from latechunks.compared import Counter, Jump, Less, NeverLess, Other, Same, Steady, Surely
 from latechunks.compared import check_upto, kinds_behind, kinds_of, modulus_of
+from latechunks.cutting import count_by
 from latechunks.residues import check_made
 from latechunks.turns import changes_of, first_quotient
 
@@ -107,7 +108,7 @@ def are_counts(one, other, total, counts):
     """Whether any value is the pair of the numbers of chunks for a total, the first one the greater."""
     if not isinstance(counts, tuple) or len(counts) != 2 or not all([is_integer(count) for count in counts]):
         return False
-    told = (len(list(one.walk(total))), len(list(other.walk(total))))
+    told = (count_by(one, total), count_by(other, total))
     return counts == told and told[0] > told[1]
 
 

@@ -2,7 +2,7 @@
 
 from latechunks.chunks import Chunks
 from latechunks.crews import Crew
-from latechunks.cutting import count_in_row, sizes_by
+from latechunks.cutting import count_by, count_in_row, sizes_by
 from latechunks.errors import TooMany
 from latechunks.late import all_latenesses, latest, lateness
 from latechunks.ratios import Ratio
@@ -75,6 +75,12 @@ class ListsTest(Case):
         rule = Fixed(2) & Divided(1, -1000, 24)
         for total in (1047, 1048, 1049, 8950, 8951, 8952, 8953, 8954, 8955):
             self.same_list(rule, total)
+
+    def test_counts_of_chunks(self):
+        for rule in drawn_rules(52, 80):
+            for total in (0, 1, 2, 7, 64, 1000, 9999):
+                self.is_same(count_by(rule, total), len(list(rule.walk(total))))
+        self.is_same(count_by(Fixed(1), GREAT), GREAT)
 
     def test_rows_of_equal_chunks(self):
         for rule in (Fixed(3), Divided(1, 1, 2) & Fixed(5), Divided(1, 0, 24), Divided(0, 40, 7)):
