@@ -470,7 +470,10 @@ class UntoldTest(Case):
         # Both at once; the third begins when both end: by one of them, or by nobody new, as there are but two.
         self.is_same(untold(Chunks(2, 2, 1), TWO, [(0, 2), (0, 2), (2, 3)]), Came(2, 2))
         self.is_same(untold(Chunks(2, 2, 1), Setting(Crew.even(3)), [(0, 2), (0, 2), (2, 3)]), Came(2, 3))
-        self.is_same(untold(Chunks(2, 1, 1), Setting(Crew.even(8)), [(0, 2), (2, 3), (2, 3)]), Came(2, 3))
+        eight = Setting(Crew.even(8))
+        self.is_same(untold(Chunks(2, 2, 1), eight, [(0, 2), (0, 2), (2, 3)]), Came(2, 3))
+        self.is_same(untold(Chunks(2, 1, 1), eight, [(0, 2), (2, 3), (2, 3)]), Came(2, 3))
+        self.is_same(untold(Chunks(2, 2, 2, 1, 1), eight, [(0, 2), (0, 2), (0, 2), (2, 3), (2, 3)]), Came(3, 5))
 
     def test_each_word(self):
         for times, misfit in (([(0, 4), (4, 9)], (1, "cost")), ([(0, 4), (4, Ratio(17, 2))], (1, "cost")),

@@ -621,7 +621,27 @@ class BackTest(Case):
             self.is_same(pool == other, False)
         self.is_same(made(until=0, here=(), loops=(("x", 4), ("y", 2))) == calm, True)
         self.is_same(made(until=0, here=(), loops=(("y", 2), ("x", 4))) == calm, False)
-        # Loops that have nothing left count, and logs.
+        for one, other in ((lambda pool: pool.set_rule(Fixed(3)), lambda pool: pool.set_rule(Fixed(4))),
+                           (lambda pool: pool.run(1), lambda pool: pool.run(Ratio(3, 2))),
+                           (lambda pool: pool.add("x", 4), lambda pool: pool.add("x", 5)),
+                           (lambda pool: pool.come("a", 1), lambda pool: pool.come("b", 1)),
+                           (lambda pool: pool.come("a", 1), lambda pool: pool.come("a", 2))):
+            told = [Pool(PLAIN, Fixed(2)) for _ in range(3)]
+            for deed, changed in zip((one, other, one), told):
+                deed(changed)
+            self.is_same((told[0] == told[1], told[0] == told[2]), (False, True))
+        # Only the logs are unlike: a has worked until 2, or has come then.
+        one, other = Pool(PLAIN, Fixed(2)), Pool(PLAIN, Fixed(2))
+        one.add("x", 2)
+        one.come("a", 0)
+        other.add("x", 2)
+        other["x"] = 0
+        other.come("a", 2)
+        one.run(2)
+        other.run(2)
+        self.is_same((one.waiting, one.busy_until("a"), one["x"]), (other.waiting, other.busy_until("a"), other["x"]))
+        self.is_same(one == other, False)
+        # Loops that have nothing left count.
         one, other = Pool(PLAIN, Fixed(2)), Pool(PLAIN, Fixed(2))
         one.add("x", 2)
         one["x"] = 0
